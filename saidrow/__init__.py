@@ -1,0 +1,1 @@
+"""Names, and the row that's said: see saidrow.pages.answers."""
