@@ -155,7 +155,7 @@ class Kids(unittest.TestCase):
 
     def test_each_kid_by_its_own_kinds_sources(self):
         lines = ["  h1 x", '    p a "A" label "No"', '    part b "No" label "B"', '    image c "No" label "C"',
-                 '    field d "No" label "D"', '    th e "No"'][:-1]
+                 '    field d "No" label "D"']
         self.assertEqual(name(lines), (4, "A B C D"))
         rules = rules_with(part="part from text label", p="text from kids label text", image="image")
         self.assertEqual(name(lines, rules=rules), (4, "No No D"))

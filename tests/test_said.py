@@ -81,7 +81,7 @@ class Hint(unittest.TestCase):
         self.assertEqual(told("hint", ['  part x "Own"']), ("", "Own"))
         self.assertEqual(told("hint", ['  field x "Own" label "L"']), ("", "Own"))
         self.assertEqual(told("hint", ['  p x "Own"']), ("", ""))
-        self.assertEqual(told("hint", ['  item x "Own" label "L"'.replace("item", "part")]), ("", "Own"))
+        self.assertEqual(told("hint", ['  part x "Own" label "L"']), ("", "Own"))
         self.assertEqual(told("hint", ["  list y", '    item x "Own" label "L"']), ("", "Own"))
         self.assertEqual(told("hint", ["  list y", '    item x "Own"']), ("", ""))
 
