@@ -14,6 +14,10 @@ class Name:
         self.text = text
 
 
+def comes_from(name, source):
+    return name.number == SOURCES.index(source) + 1
+
+
 def name_of(teller, place):
     inner = inner_names(teller)
     return first_given(teller, place, rule_of(teller, place).sources, inner)
@@ -36,6 +40,7 @@ def first_given(teller, place, sources, inner):
     return Name(0, "")
 
 
+# What a source gives for a box's name, whether the box's kind has this source or not.
 def given(teller, place, source, inner):
     box = teller.page.boxes[place]
     if source == "label":
@@ -56,3 +61,10 @@ def kids_shown(teller, place):
 
 def hint_given(teller, box, inner):
     return inner[teller.page.places[box.hint]] if box.hint != "" else ""
+
+
+# The places of the boxes that are labelled by this one, and whose names come from there.
+def users_of(teller, place):
+    boxes = teller.page.boxes
+    labelled = [other for other in range(len(boxes)) if boxes[place].ident in boxes[other].by]
+    return [other for other in labelled if comes_from(name_of(teller, other), "by")]

@@ -1,14 +1,10 @@
 """What's said of a box, and which boxes are in the row that's said."""
 
-from saidrow.kinds import HEADING_LEVELS, SOURCES
-from saidrow.names import hint_given, inner_names, name_of
+from saidrow.kinds import HEADING_LEVELS
+from saidrow.names import comes_from, hint_given, inner_names, name_of
 from saidrow.pagetext import places_around
 from saidrow.states import is_visible, rule_of
 from saidrow.texts import in_quotes
-
-
-def comes_from(name, source):
-    return name.number == SOURCES.index(source) + 1
 
 
 def hint_said(teller, place):

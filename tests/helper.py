@@ -2,11 +2,12 @@
 
 from saidrow.pages import answers
 
-CALLS = {"page": 0, "rules": 1, "press": 2, "name": 3, "role": 4, "hint": 5, "said": 6, "size": 12}
+CALLS = {"page": 0, "rules": 1, "press": 2, "name": 3, "role": 4, "hint": 5, "said": 6, "row": 7, "find": 8,
+         "source": 9, "label": 10, "users": 11, "size": 12}
 
-# t: a text with its length ahead; n: a number.
-ANSWERS = {"page": "n", "rules": "n", "press": "nn", "name": "nt", "role": "tnnn", "hint": "tt",
-           "said": "t", "size": "nnn"}
+# n: a number; t: a text with its length ahead; l: a list of texts; p: a list of pairs of texts.
+ANSWERS = {"page": "n", "rules": "n", "press": "nn", "name": "nt", "role": "tnnn", "hint": "tt", "said": "t",
+           "row": "p", "find": "l", "source": "t", "label": "t", "users": "l", "size": "nnn"}
 
 KINDS = ("page part h1 h2 h3 p link button field check list item table row cell th image live "
          "modal").split()
@@ -51,10 +52,14 @@ def page_of(*lines):
 
 
 def numbers_of_call(call):
+    """Whole numbers stand as they are, texts with their lengths ahead."""
     numbers = [CALLS[call[0]]]
-    for text in call[1:]:
-        data = list(text) if isinstance(text, (list, bytes)) else list(text.encode("latin-1"))
-        numbers += [len(data)] + data
+    for part in call[1:]:
+        if isinstance(part, int):
+            numbers.append(part)
+        else:
+            data = list(part) if isinstance(part, (list, bytes)) else list(part.encode("latin-1"))
+            numbers += [len(data)] + data
     return numbers
 
 
@@ -75,28 +80,36 @@ def raw(numbers):
     return parts
 
 
+def take(numbers):
+    """The first of the numbers, which are taken away one by one; no refusal stands among others."""
+    assert numbers and numbers[0] >= 0, numbers
+    return numbers.pop(0)
+
+
+def take_text(numbers):
+    return bytes([take(numbers) for _ in range(take(numbers))]).decode("latin-1")
+
+
+TAKES = {
+    "n": take,
+    "t": take_text,
+    "l": lambda numbers: [take_text(numbers) for _ in range(take(numbers))],
+    "p": lambda numbers: [(take_text(numbers), take_text(numbers)) for _ in range(take(numbers))],
+}
+
+
 def decoded(word, numbers):
     if numbers[0] < 0:
         assert len(numbers) == 1, numbers
         return numbers[0]
-    found = []
-    at = 0
-    for sign in ANSWERS[word]:
-        assert numbers[at] >= 0, numbers
-        if sign == "n":
-            found.append(numbers[at])
-            at += 1
-        else:
-            end = at + 1 + numbers[at]
-            assert end <= len(numbers), numbers
-            found.append(bytes(numbers[at + 1:end]).decode("latin-1"))
-            at = end
-    assert at == len(numbers), numbers
+    left = list(numbers)
+    found = [TAKES[sign](left) for sign in ANSWERS[word]]
+    assert left == [], numbers
     return found[0] if len(found) == 1 else tuple(found)
 
 
 def ask(*calls):
-    """The answers of a line of calls, each call a tuple of its word and its texts."""
+    """The answers of a line of calls, each call a tuple of its word, and its numbers and texts as they're laid."""
     numbers = [number for call in calls for number in numbers_of_call(call)]
     assert 1 <= len(calls) <= 40 and len(numbers) <= 17000, "no such line is handed in"
     parts = raw(numbers)

@@ -99,6 +99,10 @@ class By(unittest.TestCase):
     def test_around_it_and_in_it(self):
         self.assertEqual(name(['  part a label "A"', "    part x by a b", '      p b "B"']), (1, "A B"))
 
+    def test_what_is_around_a_box_is_none_of_its_kids(self):
+        self.assertEqual(name(['page top label "All"', "  field x by a", "  h1 a"]), (0, ""))
+        self.assertEqual(name(['  part b label "B"', "    h1 a", "  field x by a"]), (0, ""))
+
     def test_by_a_box_with_boxes_in_it(self):
         lines = ["  field x by a", "  h1 a", '    p b "B"', '    p c "C" hidden', "    h2 d", '      p e "E"']
         self.assertEqual(name(lines), (1, "B E"))
